@@ -1,0 +1,1 @@
+"""Askorder: things decided two by two, in an order that a chair sets."""
