@@ -41,6 +41,10 @@ def beaters_of(table, one):
     return places_true(column(table, one))
 
 
+def beats_all(table, one, things):
+    return all([table[one][other] for other in things])
+
+
 def places_true(marks):
     return [place for place, mark in enumerate(marks) if mark]
 

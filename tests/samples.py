@@ -3,6 +3,26 @@
 from copy import deepcopy
 from itertools import combinations
 
+# 3 beats 0, 0 beats 1 and 2, 1 beats 2 and 3, 2 beats 3.
+FOUR = [
+    [False, True, True, False],
+    [False, False, True, True],
+    [False, False, False, True],
+    [True, False, False, False],
+]
+
+# 0 beats 1, 1 beats 2, 2 beats 0; 3 beats these three; each of 4, 5, 6 beats 3 and two of the three.
+# No other thing covers 3, yet each chain with 3 as its head has a beater.
+SEVEN = [
+    [False, True, False, False, False, False, True],
+    [False, False, True, False, False, True, False],
+    [True, False, False, False, True, False, False],
+    [True, True, True, False, False, False, False],
+    [True, True, False, True, False, False, False],
+    [True, False, True, True, True, False, False],
+    [False, True, True, True, True, True, False],
+]
+
 
 def table_from(many, bits):
     """The full table in which the k-th pair (lesser thing first) goes to the lesser where bit k is set."""
@@ -29,13 +49,121 @@ def some_tables(many, count):
 
 
 def tables_of_all_sizes():
-    """All tables of 1 to 4 things, and some of 5 to 8."""
+    """All tables of 1 to 4 things, and some of 5 to 8, with one ring and with several."""
     tables = []
     for many in range(1, 5):
         tables.extend(all_tables(many))
     for many in range(5, 9):
         tables.extend(some_tables(many, 40))
+    return tables + tables_with_rings() + [SEVEN]
+
+
+def thin_ring(many):
+    """Each thing beats the next one and all that stand two or more places ahead of it."""
+    return [[other == one + 1 or other < one - 1 for other in range(many)] for one in range(many)]
+
+
+def renumbered(table, order):
+    return [[table[one][other] for other in order] for one in order]
+
+
+def stacked(tables):
+    """The things of each table beat all things of the tables behind it."""
+    many = sum(len(table) for table in tables)
+    stack = [[one < other for other in range(many)] for one in range(many)]
+    first = 0
+    for table in tables:
+        for one, row in enumerate(table):
+            stack[first + one][first:first + len(row)] = row
+        first += len(table)
+    return stack
+
+
+RING_SIZES = [
+    (1, 1), (1, 3), (3, 1), (1, 1, 1, 1, 1), (4, 1), (1, 4, 1), (3, 3), (1, 3, 1, 1), (5, 1), (6, 1), (3, 4),
+    (1, 5, 1), (7, 1), (1, 7), (5, 3), (3, 5), (4, 4), (1, 3, 1, 3), (3, 1, 4), (1, 1, 1, 1, 1, 1, 1, 1), (3, 3, 1, 1),
+    (3,), (4,), (5,), (6,), (7,), (8,),
+]
+
+
+def ring_order(sizes):
+    """In which order the things of these rings get their numbers: mixed up, the same each time."""
+    return list(order_number(sum(sizes), 29387 * sum(sizes) + 31 * len(sizes)))
+
+
+def table_of_rings(sizes):
+    """A table with a ring for each of the sizes (1, or 3 and more), from the top down."""
+    return renumbered(stacked([thin_ring(many) for many in sizes]), ring_order(sizes))
+
+
+def tables_with_rings():
+    return [table_of_rings(sizes) for sizes in RING_SIZES]
+
+
+def few_tables():
+    """Tables of 1 to 8 things, with one ring and with several, few enough to ask much about each."""
+    tables = tables_with_rings() + [SEVEN]
+    for many in range(1, 9):
+        tables.extend(some_tables(many, 3))
     return tables
+
+
+def subsets(things):
+    """All lists of these things, in their order, the empty one too."""
+    lists = [[]]
+    for thing in things:
+        lists = lists + [earlier + [thing] for earlier in lists]
+    return lists
+
+
+def each_beats_the_next(table, things):
+    return all(table[one][other] for one, other in zip(things, things[1:]))
+
+
+def dominates(table, one, things):
+    return all(table[one][other] for other in things)
+
+
+def is_chain_by_words(table, things):
+    """3.1 by its words: each of one thing or more beats all that stand behind it."""
+    pairs = combinations(things, 2)
+    return len(things) > 0 and all(table[one][other] for one, other in pairs)
+
+
+def has_beater(table, things):
+    return any(dominates(table, one, things) for one in range(len(table)))
+
+
+def chains_by_words(table):
+    """All chains of a table, out of all sets of its things."""
+    chains = []
+    for things in subsets(range(len(table))):
+        # In a chain the one that beats more of the others stands ahead.
+        ranked = sorted(things, key=lambda one: -sum(table[one][other] for other in things))
+        if is_chain_by_words(table, ranked):
+            chains.append(ranked)
+    return chains
+
+
+def crowns_by_words(table):
+    """3.3 by its words: the heads of all chains that have no beater."""
+    return sorted({chain[0] for chain in chains_by_words(table) if not has_beater(table, chain)})
+
+
+def comes_to(table):
+    """Which thing comes to which, itself too, by opening one thing after the other for passing through."""
+    many = len(table)
+    comes = [[one == other or table[one][other] for other in range(many)] for one in range(many)]
+    for over in range(many):
+        for one in range(many):
+            for other in range(many):
+                comes[one][other] = comes[one][other] or (comes[one][over] and comes[over][other])
+    return comes
+
+
+def top_by_words(table):
+    """The things that come to all things."""
+    return [one for one, row in enumerate(comes_to(table)) if all(row)]
 
 
 def order_number(many, number):

@@ -134,6 +134,21 @@ class Forms(unittest.TestCase):
                 if isinstance(node, ast.Name) and node.id not in bound:
                     self.assertIn(node.id, OWN_NAMES, (path, node.lineno))
 
+    def test_is_stands_beside_none_true_and_false_alone(self):
+        for path, tree in trees():
+            for node in ast.walk(tree):
+                if isinstance(node, ast.Compare) and any(isinstance(sign, (ast.Is, ast.IsNot)) for sign in node.ops):
+                    beside = node.comparators[0]
+                    self.assertIsInstance(beside, ast.Constant, (path, node.lineno))
+                    self.assertTrue(beside.value is None or isinstance(beside.value, bool), (path, node.lineno))
+
+    def test_sets_stand_within_sorted_or_len_alone(self):
+        for path, tree in trees():
+            calls = [node for node in ast.walk(tree) if isinstance(node, ast.Call) and isinstance(node.func, ast.Name)]
+            made = [node for node in calls if node.func.id in ("set", "frozenset")]
+            held = [node.args[0] for node in calls if node.func.id in ("sorted", "len") and not node.keywords]
+            self.assertEqual([node.lineno for node in made if node not in held], [], path)
+
     def test_methods(self):
         own = [name for path, tree in trees() for name in bound_names(tree)]
         for path, tree in trees():
@@ -161,6 +176,12 @@ class Imports(unittest.TestCase):
                         defined.append(target.targets[0].id)
                     for one in node.names:
                         self.assertIn(one.name, defined, path)
+
+    def test_no_name_of_a_file_is_called_like_an_import_of_it(self):
+        for path, tree in trees():
+            imports = [one.name for node in tree.body if isinstance(node, ast.ImportFrom) for one in node.names]
+            names = bound_names(tree)
+            self.assertEqual([name for name in imports if names.count(name) != 1], [], path)
 
     def test_no_two_files_draw_from_one_another(self):
         left = {f"askorder.{path.stem}": drawn(tree) for path, tree in trees()}

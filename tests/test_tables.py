@@ -6,17 +6,9 @@ from itertools import permutations, product
 
 from askorder.tables import beaten_by, beaters_of, is_full, part, turned, votes_for
 from askorder.votes import table_of
-from samples import all_tables, check_kept, pair_count, some_tables, tables_of_all_sizes
+from samples import FOUR, all_tables, check_kept, pair_count, some_tables, tables_of_all_sizes
 
 ROUND = [[False, True, False], [False, False, True], [True, False, False]]
-
-# 3 beats 0, 0 beats 1 and 2, 1 beats 2 and 3, 2 beats 3.
-FOUR = [
-    [False, True, True, False],
-    [False, False, True, True],
-    [False, False, False, True],
-    [True, False, False, False],
-]
 
 
 def lists_of_things(many):
