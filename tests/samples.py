@@ -1,7 +1,7 @@
 """What several test files share: tables and votes to ask about, and a check of 0.2 and 0.6."""
 
 from copy import deepcopy
-from itertools import combinations
+from itertools import combinations, permutations
 
 # 3 beats 0, 0 beats 1 and 2, 1 beats 2 and 3, 2 beats 3.
 FOUR = [
@@ -150,6 +150,18 @@ def crowns_by_words(table):
     return sorted({chain[0] for chain in chains_by_words(table) if not has_beater(table, chain)})
 
 
+def holds_by_words(table, thing, paper, chains):
+    """3.4 by its words, over all chains of the table."""
+    if paper[0] == "chain":
+        chain = paper[1]
+        return is_chain_by_words(table, chain) and chain[0] == thing and not has_beater(table, chain)
+    for chain, beater in paper[1]:
+        if not (is_chain_by_words(table, chain) and chain[0] == thing and dominates(table, beater, chain)):
+            return False
+    headed = [set(chain) for chain in chains if chain[0] == thing]
+    return all(any(things <= set(chain) for chain, beater in paper[1]) for things in headed)
+
+
 def comes_to(table):
     """Which thing comes to which, itself too, by opening one thing after the other for passing through."""
     many = len(table)
@@ -190,6 +202,74 @@ def made_odd(votes):
     if sum(count for count, order in votes) % 2 == 0:
         return [(votes[0][0] + 1, votes[0][1])] + votes[1:]
     return votes
+
+
+def some_orders(many, count):
+    """Orders of so many things, as lists: all of up to 4 things, else a spread that is the same each time."""
+    if many <= 4:
+        return [list(order) for order in permutations(range(many))]
+    return [list(order_number(many, place * 10007 + place ** 2 * 31)) for place in range(count)]
+
+
+def some_tree(many, deep, seed):
+    """A tree of so many things, the same each time, with some branch of just this depth."""
+    if deep == 0:
+        return seed % 1009 % many
+    other = some_tree(many, seed // 7 % deep, seed * 31 % 99991 + 17)
+    deepest = some_tree(many, deep - 1, seed * 57 % 99991 + 5)
+    return (deepest, other) if seed // 3 % 2 == 0 else (other, deepest)
+
+
+def full_tree(deep, things):
+    """The tree in which every branch has this depth, with these things from left to right, round and round."""
+    row = [things[place % len(things)] for place in range(2 ** deep)]
+    while len(row) > 1:
+        row = list(zip(row[::2], row[1::2]))
+    return row[0]
+
+
+def depth_of(tree):
+    return 1 + max(depth_of(side) for side in tree) if isinstance(tree, tuple) else 0
+
+
+def some_trees(many):
+    """Trees of up to 9 questions deep: things alone, narrow ones and full ones."""
+    trees = list(range(many)) + [full_tree(9, list(range(many))), full_tree(9, [many - 1]), ((0, 0), (0, 0))]
+    for deep in range(10):
+        trees.extend([some_tree(many, deep, 1000 * deep + seed) for seed in range(1, 6)])
+    return trees
+
+
+def wrong_orders(many):
+    """Orders that do not tell each of so many things once and nothing else."""
+    good = tuple(range(many))
+    orders = [
+        (),
+        good[:-1],
+        good[1:],
+        good + (0,),
+        good + (many - 1,),
+        good + (many,),
+        good + (-1,),
+        (-1,) + good,
+        good[:-1] + (many,),
+        (many,) + good[1:],
+        (-1,) + good[1:],
+        good[:-1] + (-1,),
+        tuple(range(1, many + 1)),
+        good + good,
+    ]
+    if many > 1:
+        orders.append(good[:-1] + (0,))
+        orders.append((many - 1,) + good[1:])
+        orders.append((0,) * many)
+    return orders
+
+
+def no_orders(many):
+    """Lists that are no orders of so many things; good orders of another count of things are among them."""
+    lists = [list(order) for order in wrong_orders(many)] + [[10 ** 40] * many]
+    return lists + [list(range(other)) for other in range(11) if other != many]
 
 
 def scribbled(value):

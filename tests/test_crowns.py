@@ -7,21 +7,9 @@ from askorder.covers import uncovered
 from askorder.crowns import crown_paper, crowns, shows_crown
 from askorder.rings import top_ring
 from samples import (
-    SEVEN, all_tables, chains_by_words, check_kept, crowns_by_words, dominates, few_tables, has_beater,
-    is_chain_by_words, tables_of_all_sizes, thin_ring,
+    SEVEN, all_tables, chains_by_words, check_kept, crowns_by_words, few_tables, holds_by_words, tables_of_all_sizes,
+    thin_ring,
 )
-
-
-def holds_by_words(table, thing, paper, chains):
-    """3.4 by its words, over all chains of the table."""
-    if paper[0] == "chain":
-        chain = paper[1]
-        return is_chain_by_words(table, chain) and chain[0] == thing and not has_beater(table, chain)
-    for chain, beater in paper[1]:
-        if not (is_chain_by_words(table, chain) and chain[0] == thing and dominates(table, beater, chain)):
-            return False
-    headed = [set(chain) for chain in chains if chain[0] == thing]
-    return all(any(things <= set(chain) for chain, beater in paper[1]) for things in headed)
 
 
 def chain_changes(many, chain):
@@ -140,6 +128,7 @@ class ShowsCrown(unittest.TestCase):
         self.assertIs(self.asked(3, "beaten", pairs + [([], 0)]), False)
         self.assertIs(self.asked(3, "beaten", pairs + [([4, 3, 0], 5)]), False)
         self.assertIs(self.asked(4, "beaten", pairs), False)
+        self.assertIs(self.asked(3, "another", pairs), False)
 
     def test_a_chain_may_lie_in_another_one_with_things_between(self):
         # 0 beats all of 1, 2, 3; 1 beats 2 and 3; 2 beats 3: one chain holds all that 1 is the head of.

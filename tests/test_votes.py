@@ -6,38 +6,12 @@ from itertools import permutations
 from askorder.errors import BadBallot, Even
 from askorder.tables import is_full
 from askorder.votes import asked, lead, table_of, voices
-from samples import check_kept, check_refused, made_odd, order_number, some_votes
+from samples import check_kept, check_refused, made_odd, order_number, some_votes, wrong_orders
 
 MOST = 10 ** 30
 
 # Of three things: 0 beats 1, 1 beats 2, 2 beats 0.
 ROUND = [(3, (0, 1, 2)), (4, (1, 2, 0)), (4, (2, 0, 1))]
-
-
-def wrong_orders(many):
-    """Orders that do not tell each of so many things once and nothing else."""
-    good = tuple(range(many))
-    orders = [
-        (),
-        good[:-1],
-        good[1:],
-        good + (0,),
-        good + (many - 1,),
-        good + (many,),
-        good + (-1,),
-        (-1,) + good,
-        good[:-1] + (many,),
-        (many,) + good[1:],
-        (-1,) + good[1:],
-        good[:-1] + (-1,),
-        tuple(range(1, many + 1)),
-        good + good,
-    ]
-    if many > 1:
-        orders.append(good[:-1] + (0,))
-        orders.append((many - 1,) + good[1:])
-        orders.append((0,) * many)
-    return orders
 
 
 def counted_lead(votes, one, other):
