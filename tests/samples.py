@@ -272,6 +272,21 @@ def no_orders(many):
     return lists + [list(range(other)) for other in range(11) if other != many]
 
 
+def bad_votes(many):
+    """Votes in which the order of some ballot is a wrong one, their voices in all odd or even."""
+    good = (1, tuple(range(many)))
+    votes = []
+    for order in wrong_orders(many):
+        votes.extend([[(1, order)], [good, (1, order)], [(2, order), good, good]])
+    return votes
+
+
+def even_votes(many):
+    """Good votes whose voices in all are even, no ballot at all too."""
+    good = tuple(range(many))
+    return [[], [(2, good)], [(1, good), (1, good)], [(1, good), (1, good[1:] + good[:1])], [(10 ** 30, good)]]
+
+
 def scribbled(value):
     """Spoils every list within a value, as an asker may."""
     if isinstance(value, (list, tuple)):

@@ -4,27 +4,15 @@ import unittest
 from copy import deepcopy
 from itertools import permutations
 
-from askorder.ahead import ahead_end, chain_behind
+from askorder.ahead import chain_behind
 from askorder.errors import BadOrder, Unknown
 from askorder.orders import brings, to_crown, to_rest, to_stand
-from askorder.plain import plain_end
 from askorder.rings import rings
-from askorder.tables import votes_for
-from askorder.trees import rest_tree, standing_tree
+from kinds import KINDS, NO_KINDS, led_to
 from samples import (
     FOUR, SEVEN, all_tables, chains_by_words, check_kept, check_refused, crowns_by_words, few_tables, holds_by_words,
     no_orders, some_orders, tables_of_all_sizes, thin_ring, top_by_words,
 )
-
-KINDS = ("plain", "ahead", "rest")
-NO_KINDS = ("", "Plain", "plain ", " ahead", "aheadrest", "standing", "rests", "PLAIN", "order", "left", "chain", "0")
-
-
-def led_to(table, kind, order):
-    """5.4 by its words: the kind of tree, asked of the kind of voters."""
-    if kind == "plain":
-        return plain_end(votes_for(table), len(table), standing_tree(order))
-    return ahead_end(table, standing_tree(order) if kind == "ahead" else rest_tree(order))
 
 
 class Papers(unittest.TestCase):
