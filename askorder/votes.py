@@ -1,6 +1,6 @@
-"""Votes: which of them are refused, their voices, leads, and the table of them."""
+"""Votes: which of them are refused, their voices, leads, raising, and the table of them."""
 
-from askorder.errors import BadBallot, Even
+from askorder.errors import BadBallot, Even, NothingLeft
 
 
 def is_thing(value, many):
@@ -40,6 +40,13 @@ def lead(votes, one, other):
 
 def puts_ahead(order, one, other):
     return order.index(one) < order.index(other)
+
+
+def raised_order(order, thing):
+    place = order.index(thing)
+    if place == 0:
+        raise NothingLeft("the thing is the best one of the ballot already")
+    return order[:place - 1] + (thing, order[place - 1]) + order[place + 1:]
 
 
 def table_of(votes, many):

@@ -79,6 +79,38 @@ def stacked(tables):
     return stack
 
 
+def nested(outer, inners):
+    """The table in which a whole table stands in the place of each thing of the outer one."""
+    homes = [place for place, inner in enumerate(inners) for thing in inner]
+    table = [[outer[here][there] for there in homes] for here in homes]
+    for place, inner in enumerate(inners):
+        first = homes.index(place)
+        for one, row in enumerate(inner):
+            table[first + one][first:first + len(row)] = row
+    return table
+
+
+def mixed_up(table, seed):
+    """The table with its things numbered in another way, the same each time."""
+    return renumbered(table, order_number(len(table), seed * 29387 + 31))
+
+
+def nested_tables():
+    """Tables of one ring and of several in which sets of several things stand together, also one within another."""
+    one, two, three, four = [[False]], [[False, True], [False, False]], thin_ring(3), thin_ring(4)
+    inner = nested(three, [two, one, one])
+    tables = [
+        nested(three, [two, one, one]), nested(three, [one, three, one]), nested(three, [one, two, two]),
+        nested(three, [three, one, two]), nested(three, [three, three, two]), nested(three, [two, four, two]),
+        nested(three, [inner, three, one]), nested(three, [one, inner, one]), nested(four, [two, two, two, two]),
+        nested(four, [one, three, one, one]), nested(thin_ring(5), [two, one, two, one, two]),
+        nested(thin_ring(6), [one, one, two, one, two, one]),
+        nested(three, [stacked([one, three]), stacked([two, one]), one]), nested(two, [inner, three]),
+        nested(two, [two, inner]), nested(stacked([one, three]), [two, one, three, two]),
+    ]
+    return [mixed_up(table, seed) for seed, table in enumerate(tables)]
+
+
 RING_SIZES = [
     (1, 1), (1, 3), (3, 1), (1, 1, 1, 1, 1), (4, 1), (1, 4, 1), (3, 3), (1, 3, 1, 1), (5, 1), (6, 1), (3, 4),
     (1, 5, 1), (7, 1), (1, 7), (5, 3), (3, 5), (4, 4), (1, 3, 1, 3), (3, 1, 4), (1, 1, 1, 1, 1, 1, 1, 1), (3, 3, 1, 1),
@@ -114,6 +146,23 @@ def subsets(things):
     for thing in things:
         lists = lists + [earlier + [thing] for earlier in lists]
     return lists
+
+
+def partings(things):
+    """All ways to part these things into lists of at least one thing."""
+    if not things:
+        return [[]]
+    ways = []
+    for way in partings(things[1:]):
+        ways.append([[things[0]]] + way)
+        ways.extend([way[:place] + [[things[0]] + way[place]] + way[place + 1:] for place in range(len(way))])
+    return ways
+
+
+def together_by_words(table, things):
+    """8.1 by its words."""
+    outside = [other for other in range(len(table)) if other not in things]
+    return all(dominates(table, other, things) or all(table[one][other] for one in things) for other in outside)
 
 
 def each_beats_the_next(table, things):

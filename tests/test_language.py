@@ -159,7 +159,35 @@ class Forms(unittest.TestCase):
     def test_names_at_the_top_are_bound_once(self):
         for path, tree in trees():
             names = [node.name for node in tree.body if isinstance(node, (ast.FunctionDef, ast.ClassDef))]
+            names.extend([node.targets[0].id for node in tree.body if isinstance(node, ast.Assign)])
             self.assertEqual(len(names), len(set(names)), path)
+
+    def test_what_stands_at_the_top_of_a_file(self):
+        for path, tree in trees():
+            for node in tree.body[1:]:
+                where = (path, node.lineno)
+                self.assertIsInstance(node, (ast.ImportFrom, ast.FunctionDef, ast.ClassDef, ast.Assign), where)
+                if isinstance(node, ast.Assign):
+                    self.assertIsInstance(node.targets[0], ast.Name, where)
+                    plain = (ast.Constant, ast.Tuple, ast.List, ast.Dict, ast.Name, ast.Load)
+                    self.assertTrue(all(isinstance(inner, plain) for inner in ast.walk(node.value)), where)
+
+    def test_no_method_is_called_like_a_value_of_an_object(self):
+        methods = []
+        values = []
+        for path, tree in trees():
+            for node in ast.walk(tree):
+                if isinstance(node, ast.ClassDef):
+                    own = [inner.name for inner in node.body if isinstance(inner, ast.FunctionDef)]
+                    self.assertEqual(len(own), len(set(own)), (path, node.name))
+                    self.assertLessEqual(len(node.bases), 1, (path, node.name))
+                    methods.extend(own)
+                elif isinstance(node, ast.Attribute) and isinstance(node.ctx, ast.Store):
+                    values.append(node.attr)
+        self.assertEqual(set(methods) & set(values), set())
+        plain_values = ("", 0, [], {}, (), b"", set())
+        taken = {name for value in plain_values for name in dir(value) if not name.startswith("__")}
+        self.assertEqual((set(methods) | set(values)) & taken, set())
 
 
 class Imports(unittest.TestCase):
